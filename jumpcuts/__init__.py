@@ -1,0 +1,1 @@
+"""Jumpcuts: films cut between like letters."""

@@ -1,0 +1,74 @@
+"""The error classes, and where the names of the interface are defined."""
+
+import ast
+import importlib
+import pathlib
+
+from jumpcuts import errors
+
+from tests.plain import PlainCase
+
+FIELDS = {
+    "BadFilm": "place", "BadPlace": None, "BadCuts": "index", "BadNumber": None, "TooLong": "most", "BadFilms": None,
+    "BadWeb": "index", "BadLetter": None, "NoWalk": None, "NoWay": None, "BadNames": None, "NotText": None,
+    "InvalidText": "place", "BadGoal": None, "CannotCut": None, "NothingToUndo": None,
+}
+INTERFACE = {
+    "films": "kinds is_last places next_like first_again",
+    "cuts": "cuts cut next_films play films_on_the_way kept_places",
+    "partings": "comes is_parting ends stuck blocks count_partings parting_at rank_of_parting",
+    "numbers": "fewest_cuts most_cuts block_most some_cuts shows_cuts most_in_all cut_numbers",
+    "limits": "partings_by_cuts comes_within evenest longest_block cheapest kept_ends",
+    "tight": "tight_cuts tight_next is_tight_row tight_row fewest_tight tight_numbers",
+    "errors": "CutError " + " ".join(FIELDS),
+}
+FOLDER = pathlib.Path(errors.__file__).parent
+
+
+class Errors(PlainCase):
+
+    def test_base(self):
+        self.assertEqual(errors.CutError.__bases__, (ValueError,))
+
+    def test_direct_subclasses(self):
+        for name in FIELDS:
+            self.assertEqual(getattr(errors, name).__bases__, (errors.CutError,), name)
+
+    def test_fields(self):
+        for name, field in FIELDS.items():
+            made = getattr(errors, name)
+            if field is None:
+                self.assertEqual(vars(made()), {}, name)
+            else:
+                self.assertEqual(vars(made(7)), {field: 7}, name)
+                self.assertEqual(vars(made(None)), {field: None}, name)
+
+    def test_no_other_errors(self):
+        found = [name for name, value in vars(errors).items() if isinstance(value, type)]
+        self.assertEqual(sorted(found), sorted(["CutError", *FIELDS]))
+
+
+class Layout(PlainCase):
+
+    def test_names_are_defined_where_they_are_listed(self):
+        for name, listed in INTERFACE.items():
+            tree = ast.parse((FOLDER / f"{name}.py").read_text())
+            defined = [row.name for row in tree.body if isinstance(row, (ast.FunctionDef, ast.ClassDef))]
+            for one in listed.split():
+                self.assertEqual(defined.count(one), 1, (name, one))
+                self.assertTrue(callable(getattr(importlib.import_module(f"jumpcuts.{name}"), one)))
+
+    def test_folder_holds_files_of_the_package_alone(self):
+        found = [path for path in FOLDER.rglob("*") if "__pycache__" not in path.parts and not path.suffix == ".py"]
+        self.assertEqual(found, [])
+        self.assertTrue((FOLDER / "__init__.py").is_file())
+
+    def test_sizes(self):
+        for path in FOLDER.rglob("*.py"):
+            text = path.read_text(encoding="ascii")
+            lines = text.split("\n")
+            self.assertLess(len(lines), 401, path)
+            self.assertLess(max(len(line) for line in lines), 121, path)
+            for row in ast.walk(ast.parse(text)):
+                if isinstance(row, ast.FunctionDef):
+                    self.assertLess(row.end_lineno - row.lineno, 40, (path, row.name))
