@@ -1,9 +1,10 @@
 """Checks of arguments that all files share."""
 
-from jumpcuts.errors import BadFilm, BadNumber, BadPlace, TooLong
+from jumpcuts.errors import BadFilm, BadFilms, BadNumber, BadPlace, TooLong
 
 LETTERS = "abcdefgh"
 MOST_LETTERS = 200
+MOST_FILMS = 4
 
 
 def is_whole(value):
@@ -25,9 +26,27 @@ def check_film(value):
             raise BadFilm(place)
 
 
+def check_films(value):
+    """Raise BadFilms for a value that is no tuple of 1 to 4 items, BadFilm for the first item that is no film."""
+    if not isinstance(value, tuple) or not 1 <= len(value) <= MOST_FILMS:
+        raise BadFilms()
+    for item in value:
+        check_film(item)
+
+
 def check_letter(value):
     """Raise BadNumber for a value that is none of the letters a to h."""
     if not is_letter(value):
+        raise BadNumber()
+
+
+def check_letters(value):
+    """Raise BadNumber for a value that is no string of unlike letters by the alphabet."""
+    if not isinstance(value, str) or len(value) > len(LETTERS):
+        raise BadNumber()
+    for letter in value:
+        check_letter(letter)
+    if value != "".join(sorted(set(value))):
         raise BadNumber()
 
 

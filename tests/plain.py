@@ -13,6 +13,17 @@ NO_FILMS = (
     ("a\nb", 1), ("-", 0),
 )
 NO_INTEGERS = (None, True, False, "0", "", "a", (), (0,), [], [0], {}, {0: 0})
+NO_LETTER = (
+    None, True, False, 0, 1, (), ("a",), [], ["a"], {}, {"a": 1}, "", "i", "A", "ab", "aa", " ", "a ", "\u00e4",
+)
+NO_LETTERS = (
+    None, True, False, 0, 1, (), ("a",), ("a", "b"), [], ["a"], {}, {"a": 1}, "i", "A", " ", "ba", "aa", "aab", "abb",
+    "acb", "abi", "ia", "aB", "a b", "a,b", "ab\n", "hgfedcba", "abcdefghi", "abcdefgha", "abcdefghh", "\u00e4",
+    "a\u0430",
+)
+# Some films of which just this many outcomes come.
+FILM_OF_5000 = "aaaabaaabbaaabbcdcbcbbab"
+FILM_OF_5001 = "ccbbbccacbcaabacccbaabac"
 LONG_FILMS = (
     "a" * 200, "ab" * 100, "aab" * 66 + "ab", "a" * 199 + "b", "abcdefgh" * 25, "aabbccddeeffgghh" * 12 + "abcdefgh",
     "abcdefghgfedcb" * 14 + "abcd",
@@ -59,6 +70,105 @@ def numbers_by_goal(film, tight=False):
     for pair in plain_tight_cuts(film) if tight else plain_cuts(film):
         for goal, numbers in numbers_by_goal(plain_cut(film, pair), tight).items():
             found.setdefault(goal, set()).update(number + 1 for number in numbers)
+    return found
+
+
+def plain_outcomes(film):
+    """All films that come of a film by rows of cuts, by the alphabet."""
+    return sorted(numbers_by_goal(film))
+
+
+def outcome_films():
+    """All films of two letters up to a size, and many of three and more letters."""
+    films = films_of("ab", 1, 8) + some_films("ab", (9, 10, 11), 25, 101)
+    films += some_films("abc", (3, 4, 5, 6, 7, 8), 120, 102)
+    films += some_films("abcd", (5, 6, 7, 8, 9, 10), 60, 103) + some_films("bdfh", (8, 9, 10), 15, 104)
+    return films + some_films("abcdefgh", (6, 8, 10, 11), 30, 105) + ["h", "abcdefgh", "hgfedcbah", "aabbccddaa"]
+
+
+@lru_cache(maxsize=None)
+def plain_steps(film):
+    """By sets of how many letters are had where a block can end, behind some first letters, those by a next one."""
+    found = {}
+    waiting = [frozenset([0])]
+    while waiting:
+        stops = waiting.pop()
+        if stops in found:
+            continue
+        found[stops] = {}
+        for letter in sorted(set(film)):
+            starts = [stop for stop in stops if film[stop:stop + 1] == letter]
+            if starts:
+                further = frozenset(at + 1 for at in range(min(starts), len(film)) if film[at] == letter)
+                found[stops][letter] = further
+                waiting.append(further)
+    return {stops: found[stops] for stops in sorted(found, key=min)}
+
+
+def plain_states(film, first, move):
+    """By states, how many outcomes end with them, for films of any size: move(state, letter) is that behind a letter.
+
+    The letters of an outcome are gone through one by one, with all places at which the block of
+    the last one can end.
+    """
+    steps = plain_steps(film)
+    table = {stops: {} for stops in steps}
+    table[frozenset([0])][first] = 1
+    found = {}
+    for stops, further in steps.items():
+        for state, many in table[stops].items():
+            if len(film) in stops:
+                found[state] = found.get(state, 0) + many
+            for letter, behind in further.items():
+                end = move(state, letter)
+                table[behind][end] = table[behind].get(end, 0) + many
+    return found
+
+
+def plain_sum(film, first, move, good):
+    """How many outcomes end with a state that is good, as plain_states tells them."""
+    return sum(many for state, many in plain_states(film, first, move).items() if good(state))
+
+
+@lru_cache(maxsize=None)
+def plain_goals(film):
+    """The set of all goals to which a film comes."""
+    return frozenset(partings_by_goal(film))
+
+
+def common_goals(films):
+    """All films that come of all of some films, by the alphabet."""
+    return sorted(frozenset.intersection(*[plain_goals(film) for film in films]))
+
+
+def first_shortest(words):
+    return min(words, key=lambda word: (len(word), word), default=None)
+
+
+def blocks_read(goal, state, letter):
+    """What a film's next letter makes of the blocks of a goal that can have begun and of those that can have ended.
+
+    Both are told by the numbers of the blocks, from 1; ahead of the first letter number 0 has ended.
+    """
+    begun, ended = state
+    begun = begun | frozenset(at + 1 for at in ended if goal[at:at + 1] == letter)
+    return begun, frozenset(at for at in begun if goal[at - 1] == letter)
+
+
+def befores_of_all(goals, size, letters):
+    """By sizes up to one, how many films of some letters come to all of some goals."""
+    found = []
+    table = {tuple((frozenset(), frozenset([0])) for _ in goals): 1}
+    for _ in range(size):
+        behind = {}
+        for states, many in table.items():
+            for letter in letters:
+                then = tuple(blocks_read(goal, state, letter) for goal, state in zip(goals, states))
+                if all(begun for begun, _ in then):
+                    behind[then] = behind.get(then, 0) + many
+        table = behind
+        found.append(sum(many for states, many in table.items()
+                         if all(len(goal) in ended for goal, (_, ended) in zip(goals, states))))
     return found
 
 
