@@ -20,6 +20,16 @@ INTERFACE = {
     "numbers": "fewest_cuts most_cuts block_most some_cuts shows_cuts most_in_all cut_numbers",
     "limits": "partings_by_cuts comes_within evenest longest_block cheapest kept_ends",
     "tight": "tight_cuts tight_next is_tight_row tight_row fewest_tight tight_numbers",
+    "outcomes": "count_outcomes count_of_length count_with outcomes outcome_at rank_of lengths shortest_length "
+                "shortest last_outcomes always",
+    "worths": "worth count_beginning count_ending count_holding count_unlike count_letters greatest_worth least_worth",
+    "sets": "by_letters count_just shortest_without longest_without next_outcome letter_range agreement",
+    "befores": "count_befores count_common befores_to befores common shortest_before longest_common meets",
+    "mends": "fewest_put_in fewest_mends fewest_left_out fewest_changed one_letter_more one_letter_less",
+    "several": "count_all_common count_befores_of_all all_common shortest_all_common futures",
+    "order": "row_numbers count_rows count_all_rows order_height sign_sum nim covers between winning_films wins "
+             "game_lengths",
+    "chances": "visit_chance mean_cuts mean_last_length mean_length last_chances chances_behind",
     "errors": "CutError " + " ".join(FIELDS),
 }
 FOLDER = pathlib.Path(errors.__file__).parent
