@@ -21,6 +21,23 @@ NO_LETTERS = (
     "acb", "abi", "ia", "aB", "a b", "a,b", "ab\n", "hgfedcba", "abcdefghi", "abcdefgha", "abcdefghh", "\u00e4",
     "a\u0430",
 )
+NO_TUPLES_OF_FILMS = (
+    None, True, False, 0, 1, "", "a", "abab", (), [], ["a"], ["ab", "ab"], {}, {"a": "a"}, ("a",) * 5, ("a",) * 200,
+    (None,) * 5, ("i",) * 6,
+)
+ALL_TIES = tuple(one + other for one, other in combinations("abcdefgh", 2))
+# Values that are no webs, with the index of BadWeb.
+NO_WEBS = (
+    (None, None), (True, None), (False, None), (0, None), (5, None), ("", None), ("ab", None), ([], None),
+    (["ab"], None), (["ab", "bc"], None), ({}, None), ({"ab": 1}, None), ("a", None),
+    (("ba",), 0), (("aa",), 0), (("ai",), 0), (("ia",), 0), (("hi",), 0), (("abc",), 0), (("a",), 0), (("",), 0),
+    ((None,), 0), ((True,), 0), ((1,), 0), (("Ab",), 0), (("aB",), 0), (("a ",), 0), (("a\u00e4",), 0),
+    ((("a", "b"),), 0), ((["a", "b"],), 0), (({"a": "b"},), 0), (((),), 0),
+    (("ab", "ab"), 1), (("bc", "ab"), 1), (("ac", "ab"), 1), (("ab", "bc", "bc"), 2), (("ab", "ac", "bd", "bc"), 3),
+    (("ab", "cb"), 1), (("ab", None), 1), (("ab", 1), 1), (("ab", "cc"), 1), (("ab", "bcd"), 1), (("ab", ""), 1),
+    (("ab", "ci"), 1), (("ab", "bc", True, None), 2), (("ab", "bc", "ac", None), 2), (ALL_TIES[::-1], 1),
+    (ALL_TIES + ("gh",), 28), (ALL_TIES + (None,), 28), (("ab",) * 30, 1),
+)
 # Some films of which just this many outcomes come.
 FILM_OF_5000 = "aaaabaaabbaaabbcdcbcbbab"
 FILM_OF_5001 = "ccbbbccacbcaabacccbaabac"
@@ -39,6 +56,12 @@ def some_films(letters, sizes, many, seed):
     """Many films of some letters, always the same ones for a seed."""
     draw = random.Random(seed)
     return ["".join(draw.choice(letters) for _ in range(draw.choice(sizes))) for _ in range(many)]
+
+
+def some_webs(many, seed):
+    """Webs of some ties each, of letters up to h, always the same ones for a seed."""
+    draw = random.Random(seed)
+    return [tuple(sorted(draw.sample(ALL_TIES, draw.choice((3, 5, 7, 9, 12))))) for _ in range(many)]
 
 
 def plain_cuts(film):

@@ -30,6 +30,16 @@ INTERFACE = {
     "order": "row_numbers count_rows count_all_rows order_height sign_sum nim covers between winning_films wins "
              "game_lengths",
     "chances": "visit_chance mean_cuts mean_last_length mean_length last_chances chances_behind",
+    "middles": "count_between nim_of_all first_missing between_lengths winning_cuts nim_counts is_between one_cut_off "
+               "turned_wins",
+    "census": "count_pairs count_last count_squeezed outcome_census cuts_census richest film_at film_rank",
+    "rings": "ring_name same_ring is_last_ring ring_comes ring_period ring_partings ring_shortest ring_fewest "
+             "ring_next ring_outcomes",
+    "walks": "is_walk count_walks walks_to count_loop_cut paths web_of loop_cut back_cut loops",
+    "drawn": "path_chance mean_path mean_steps visit_mean meets_first",
+    "glue": "renamed plain joined repeated squeezed alike joins_freely runs inner_letters pairs_of",
+    "texts": "write write_cuts read read_cuts",
+    "desks": "Desk",
     "errors": "CutError " + " ".join(FIELDS),
 }
 FOLDER = pathlib.Path(errors.__file__).parent
@@ -67,6 +77,13 @@ class Layout(PlainCase):
             for one in listed.split():
                 self.assertEqual(defined.count(one), 1, (name, one))
                 self.assertTrue(callable(getattr(importlib.import_module(f"jumpcuts.{name}"), one)))
+
+    def test_methods_stand_in_their_class(self):
+        tree = ast.parse((FOLDER / "desks.py").read_text())
+        desk = [row for row in tree.body if isinstance(row, ast.ClassDef)][0]
+        defined = [row.name for row in desk.body if isinstance(row, ast.FunctionDef)]
+        for name in "cut undo change is_open left good best now goal undoable".split():
+            self.assertEqual(defined.count(name), 1, name)
 
     def test_folder_holds_files_of_the_package_alone(self):
         found = [path for path in FOLDER.rglob("*") if "__pycache__" not in path.parts and not path.suffix == ".py"]

@@ -3,15 +3,27 @@
 from jumpcuts.befores import (
     befores, befores_to, common, count_befores, count_common, longest_common, meets, shortest_before,
 )
+from jumpcuts.census import (
+    count_last, count_pairs, count_squeezed, cuts_census, film_at, film_rank, outcome_census, richest,
+)
 from jumpcuts.chances import (
     chances_behind, last_chances, mean_cuts, mean_last_length, mean_length, visit_chance,
 )
 from jumpcuts.cuts import cut, cuts, films_on_the_way, kept_places, next_films, play
-from jumpcuts.errors import BadCuts, BadFilm
+from jumpcuts.desks import Desk
+from jumpcuts.drawn import mean_path, mean_steps, meets_first, path_chance, visit_mean
+from jumpcuts.errors import BadCuts, BadFilm, InvalidText, NoWay
 from jumpcuts.films import first_again, is_last, kinds, next_like, places
+from jumpcuts.glue import (
+    alike, inner_letters, joined, joins_freely, pairs_of, plain, renamed, repeated, runs, squeezed,
+)
 from jumpcuts.limits import cheapest, comes_within, evenest, kept_ends, longest_block, partings_by_cuts
 from jumpcuts.mends import (
     fewest_changed, fewest_left_out, fewest_mends, fewest_put_in, one_letter_less, one_letter_more,
+)
+from jumpcuts.middles import (
+    between_lengths, count_between, first_missing, is_between, nim_counts, nim_of_all, one_cut_off, turned_wins,
+    winning_cuts,
 )
 from jumpcuts.numbers import block_most, cut_numbers, fewest_cuts, most_cuts, most_in_all, shows_cuts, some_cuts
 from jumpcuts.order import (
@@ -25,13 +37,21 @@ from jumpcuts.outcomes import (
 from jumpcuts.partings import (
     blocks, comes, count_partings, ends, is_parting, parting_at, rank_of_parting, stuck,
 )
+from jumpcuts.rings import (
+    is_last_ring, ring_comes, ring_fewest, ring_name, ring_next, ring_outcomes, ring_partings, ring_period,
+    ring_shortest, same_ring,
+)
 from jumpcuts.sets import (
     agreement, by_letters, count_just, letter_range, longest_without, next_outcome, shortest_without,
 )
 from jumpcuts.several import (
     all_common, count_all_common, count_befores_of_all, futures, shortest_all_common,
 )
+from jumpcuts.texts import read, read_cuts, write, write_cuts
 from jumpcuts.tight import fewest_tight, is_tight_row, tight_cuts, tight_next, tight_numbers, tight_row
+from jumpcuts.walks import (
+    back_cut, count_loop_cut, count_walks, is_walk, loop_cut, loops, paths, walks_to, web_of,
+)
 from jumpcuts.worths import (
     count_beginning, count_ending, count_holding, count_letters, count_unlike, greatest_worth, least_worth, worth,
 )
@@ -121,3 +141,51 @@ class Examples(PlainCase):
         self.same([visit_chance("aaa", "aa"), mean_cuts("aaa"), mean_last_length("abcacb"), last_chances("abcacb"),
                    chances_behind("aaa", 1), mean_length("aaa", 1)],
                   [(2, 3), (5, 3), (7, 3), (("ab", (2, 3)), ("acb", (1, 3))), (("a", (1, 3)), ("aa", (2, 3))), (5, 3)])
+
+    def test_middles(self):
+        self.same([count_between("aaa", "a"), between_lengths("aaa", "a"), is_between("aaa", "aa", "a"),
+                   one_cut_off("aaa", "a"), nim_of_all(("aaa", "aa")), winning_cuts(("aaa", "aa")),
+                   turned_wins("aa"), first_missing("aaa"), nim_counts(2, 2)],
+                  [3, ((1, 1), (2, 1), (3, 1)), True, True, 3, ((0, "aa"),), False, 3, ((0, 2), (1, 2))])
+
+    def test_census(self):
+        self.same([count_pairs(2, 2), outcome_census(2, 2), cuts_census(2, 2), richest(3, 1), count_last(2, 8),
+                   count_squeezed(3, 2), film_at(3, 2, 5), film_rank("bab", 2)],
+                  [6, ((1, 2), (2, 2)), ((0, 2), (1, 2)), (3, "aaa"), 56, 2, "bab", 5])
+
+    def test_rings(self):
+        self.same([ring_name("bca"), same_ring("abc", "cab"), ring_period("abab"), ring_next("aba"),
+                   is_last_ring("abc"), ring_comes("aba", "a"), ring_fewest("aba", "ab"), ring_partings("aba", "ab"),
+                   ring_shortest("abab"), ring_outcomes("abab")],
+                  ["abc", True, 2, ["a", "ab"], True, True, 1, 1, 2, ["ab", "abab"]])
+
+    def test_walks(self):
+        web = ("ab", "bc")
+        self.same([is_walk(web, "abcb"), count_walks(web, "a", "c", 3), paths(web, "a", "c"), walks_to(web, "ab", 4),
+                   web_of("abcb"), loop_cut("abcbd"), back_cut("abcbd"), loops("abcbd"),
+                   count_loop_cut(web, "ab", 4)],
+                  [True, 1, ["abc"], 2, ("ab", "bc"), "abd", "abd", ("bcb",), 2])
+
+    def test_drawn(self):
+        web = ("ab", "bc")
+        self.same([path_chance(("ab", "ac", "bc"), "ab"), mean_path(web, "a", "c"), mean_steps(web, "a", "c"),
+                   visit_mean(web, "a", "c", "b"), meets_first(web, "b", "a", "c")],
+                  [(2, 3), (3, 1), (4, 1), (2, 1), (1, 2)])
+        self.fails(NoWay, mean_steps, ("ab",), "a", "c")
+
+    def test_glue(self):
+        self.same([renamed("abc", "hgfedcba"), plain("cac"), alike("aba", "cdc"), joined("ab", "c"),
+                   joins_freely("ab", "c"), repeated("ab", 2), squeezed("aabba"), runs("aab"),
+                   inner_letters("abca", "a"), pairs_of("aba")],
+                  ["hgf", "aba", True, "abc", True, "abab", "aba", (("a", 2), ("b", 1)), "bc", ["ab", "ba"]])
+
+    def test_texts(self):
+        self.same([write("aaab"), read("a3b2"), write_cuts("aba", ((0, 2),)), read_cuts("aba", "0-2")],
+                  ["a3b", "aaabb", "0-2", ((0, 2),)])
+        self.fails(InvalidText, read, "aa", place=1)
+
+    def test_desks(self):
+        desk = Desk("aabab", "ab")
+        self.same([desk.left(), desk.good(), desk.best(), desk.cut(0, 1), desk.now, desk.left(), desk.undo(),
+                   desk.change("aab"), desk.is_open(), desk.goal, desk.undoable],
+                  [1, ((0, 1), (0, 3), (1, 3), (2, 4)), ((0, 3),), None, "abab", 1, None, None, True, "aab", 0])

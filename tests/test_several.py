@@ -11,15 +11,11 @@ from jumpcuts.several import (
 )
 
 from tests.plain import (
-    FILM_OF_5000, FILM_OF_5001, LONG_FILMS, NO_FILMS, NO_INTEGERS, PlainCase, befores_of_all, common_goals, films_of,
-    first_shortest, plain_goals, plain_outcomes, plain_steps, some_films,
+    FILM_OF_5000, FILM_OF_5001, LONG_FILMS, NO_FILMS, NO_INTEGERS, NO_TUPLES_OF_FILMS, PlainCase, befores_of_all,
+    common_goals, films_of, first_shortest, plain_goals, plain_outcomes, plain_steps, some_films,
 )
 
 ALL = "abcdefgh"
-NO_TUPLES = (
-    None, True, False, 0, 1, "", "a", "abab", (), [], ["a"], ["ab", "ab"], {}, {"a": "a"}, ("a",) * 5, ("a",) * 200,
-    (None,) * 5, ("i",) * 6,
-)
 
 
 def plain_futures(film):
@@ -228,7 +224,7 @@ class WrongValues(PlainCase):
     def test_no_films(self):
         for call, more in ((count_all_common, ()), (all_common, ()), (shortest_all_common, ()),
                            (count_befores_of_all, (1, 1)), (count_befores_of_all, (None, 9))):
-            for value in NO_TUPLES:
+            for value in NO_TUPLES_OF_FILMS:
                 self.fails(BadFilms, call, value, *more)
             for value, place in NO_FILMS:
                 self.fails(BadFilm, call, (value,), *more, place=place)
