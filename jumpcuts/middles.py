@@ -36,7 +36,6 @@ def is_between(film, middle, goal):
     check_film(film)
     check_film(middle)
     check_film(goal)
-    check_length(goal, MOST_OF_GOAL)
     return comes_to(film, middle) and comes_to(middle, goal)
 
 
@@ -44,7 +43,6 @@ def one_cut_off(film, goal):
     """Tell whether one cut makes a goal of a film."""
     check_film(film)
     check_film(goal)
-    check_length(goal, MOST_OF_GOAL)
     return fewest_cuts(film, goal) == 1
 
 

@@ -38,6 +38,38 @@ def between_by_lengths(film, goal):
     return found
 
 
+def plain_comes(film, goal):
+    """Tell whether a film comes to a goal, of any size, by its letters, gone through one by one."""
+    state = frozenset(), frozenset([0])
+    for letter in film:
+        state = blocks_read(goal, state, letter)
+    return len(goal) in state[1]
+
+
+def drawn_cut(draw, film):
+    """The film behind some cut of a film, the film itself if it has none."""
+    pairs = plain_cuts(film)
+    return plain_cut(film, draw.choice(pairs)) if pairs else film
+
+
+def one_letter_off(draw, film, letters):
+    """A film with some one letter left out, put in or made another one, of at most 200 letters and not empty."""
+    place = draw.randrange(len(film))
+    found = [film[:place] + draw.choice(letters) + film[place + 1:]]
+    if len(film) > 1:
+        found.append(film[:place] + film[place + 1:])
+    if len(film) < 200:
+        found.append(film[:place] + draw.choice(letters) + film[place:])
+    return draw.choice(found)
+
+
+def put_in(draw, goal, size):
+    """A film of so many letters of which one cut makes a goal that is shorter."""
+    place = draw.randrange(len(goal))
+    more = [draw.choice(goal) for _ in range(size - len(goal) - 1)]
+    return goal[:place + 1] + "".join(more) + goal[place:]
+
+
 @lru_cache(maxsize=None)
 def plain_moves(films):
     """All tuples of films that one cut in one of some films makes, with the film's index."""
@@ -136,9 +168,8 @@ class IsBetween(PlainCase):
             for middle in draw.sample(middles, min(6, len(middles))) + [film]:
                 goals = near_goals(middle, "ab")
                 for goal in draw.sample(goals, min(6, len(goals))) + [film, middle]:
-                    if len(goal) <= 12:
-                        wanted = middle in plain_goals(film) and goal in plain_goals(middle)
-                        self.same(is_between(film, middle, goal), wanted, film, middle, goal)
+                    wanted = middle in plain_goals(film) and goal in plain_goals(middle)
+                    self.same(is_between(film, middle, goal), wanted, film, middle, goal)
 
     def test_long_films(self):
         for film in LONG_FILMS:
@@ -154,17 +185,57 @@ class IsBetween(PlainCase):
         self.same(is_between("ab" * 100, "ab" * 70 + "a", "ab" * 6), False)
         self.same(is_between("a" * 200, "a" * 200, "a" * 12), True)
 
+    def check_all(self, films):
+        """Each of some films as the film, the second one and the goal."""
+        comes_of = {(one, other): plain_comes(one, other) for one in films for other in films}
+        for film in films:
+            for middle in films:
+                for goal in films:
+                    wanted = comes_of[film, middle] and comes_of[middle, goal]
+                    self.same(is_between(film, middle, goal), wanted, film, middle, goal)
+
+    def test_goals_of_any_length(self):
+        draw = random.Random(323)
+        for letters in ("a", "ab", ALL):
+            for size in (12, 13, 14):
+                for further in (size + 1, size + 6, 199):
+                    goal = "".join(draw.choice(letters) for _ in range(size))
+                    middle = put_in(draw, goal, further)
+                    film = put_in(draw, middle, further + 1)
+                    self.same(is_between(film, middle, goal), True, film, middle, goal)
+                    self.check_all([film, middle, goal, one_letter_off(draw, middle, letters + "h"),
+                                    one_letter_off(draw, goal, letters + "h")])
+
+    def test_goals_of_200_letters(self):
+        draw = random.Random(324)
+        for goal in ("a" * 200, "ab" * 100, "abcdefgh" * 25) + tuple(some_films(ALL, (200,), 2, 325)):
+            other = one_letter_off(draw, goal, "h")[:199] + "h"
+            # No film is longer than 200 letters, so nothing but the goal itself comes to it.
+            self.same(is_between(goal, goal, goal), True)
+            self.check_all([goal, drawn_cut(draw, goal), goal[:199], other])
+
+    def test_sizes_at_the_limits(self):
+        for size in (12, 13, 14, 15, 100, 199):
+            same = "a" * size
+            self.same([is_between(same + "a", same, same), is_between(same, same + "a", same),
+                       is_between(same, same, same + "a"), is_between(same, same, same)], [True, False, False, True])
+            both = ("ab" * 100)[:size]
+            self.same([is_between(both, both, both), is_between(both + "b", both + "b", both)],
+                      [True, size % 2 == 0])
+            every = ("abcdefgh" * 25)[:size]
+            self.same([is_between(every, every, every), is_between(every + "h", every, every),
+                       is_between(every, every, every + "h")], [True, every[-1] == "h", False])
+
 
 class OneCutOff(PlainCase):
 
     def check(self, film, goals):
         good = {plain_cut(film, pair) for pair in plain_cuts(film)}
         for goal in goals:
-            if len(goal) <= 12:
-                self.same(one_cut_off(film, goal), goal in good, film, goal)
-        for goal in good:
-            if len(goal) <= 12:
-                self.same(one_cut_off(film, goal), True, film, goal)
+            self.same(one_cut_off(film, goal), goal in good, film, goal)
+        # A long film has too many to go through all of them.
+        for goal in sorted(good)[::1 + len(good) // 60]:
+            self.same(one_cut_off(film, goal), True, film, goal)
 
     def test_films_of_two_letters(self):
         for film in films_of("ab", 1, 6):
@@ -174,7 +245,7 @@ class OneCutOff(PlainCase):
         films = some_films("ab", (8, 10, 12), 10, 312) + some_films("abc", (5, 8, 11), 30, 313)
         films += some_films("abcd", (9, 12), 15, 314) + some_films(ALL, (10, 14), 20, 315)
         for film in films:
-            self.check(film, near_goals(film, "abc") if len(film) < 13 else [film[:12], film[0]])
+            self.check(film, near_goals(film, "abc") if len(film) < 13 else [film[:12], film[0], film[:13], film])
 
     def test_long_films(self):
         for film in LONG_FILMS + tuple(some_films(ALL, (200,), 2, 316)):
@@ -187,6 +258,40 @@ class OneCutOff(PlainCase):
         self.same(one_cut_off("b" + "a" * 199, "ba"), True)
         self.same(one_cut_off("b" * 100 + "a" * 100, "ba"), False)
         self.same(one_cut_off("a" * 12, "a" * 12), False)
+
+    def test_goals_of_any_length(self):
+        draw = random.Random(326)
+        for letters in ("a", "ab", ALL):
+            for size in (12, 13, 14):
+                for further in (size + 1, size + 2, size + 6, 60, 200):
+                    goal = "".join(draw.choice(letters) for _ in range(size))
+                    film = put_in(draw, goal, further)
+                    self.same(one_cut_off(film, goal), True, film, goal)
+                    goals = [goal, film, goal + goal[-1], film[:size], film[-size:], drawn_cut(draw, goal),
+                             drawn_cut(draw, drawn_cut(draw, film))]
+                    goals += [one_letter_off(draw, each, letters + "h") for each in (goal, goal, goal, film)]
+                    self.check(film, goals)
+
+    def test_goals_of_200_letters(self):
+        draw = random.Random(327)
+        for goal in ("a" * 200, "ab" * 100, "abcdefgh" * 25) + tuple(some_films(ALL, (200,), 2, 328)):
+            # A cut leaves 199 letters at most, so it makes no such goal of any film.
+            for film in (goal, goal[:199], drawn_cut(draw, goal), one_letter_off(draw, goal, "h"), "a"):
+                self.same(one_cut_off(film, goal), False, film, goal)
+
+    def test_one_cut_and_two(self):
+        for size in (12, 13, 14, 15, 100, 199):
+            self.same([one_cut_off("a" * (size + 1), "a" * size), one_cut_off("a" * size, "a" * size),
+                       one_cut_off("a" * size, "a" * (size + 1))], [True, False, False])
+        for size in (12, 14, 100, 198):
+            goal = "ab" * (size // 2)
+            self.same([one_cut_off("ab" + goal, goal), one_cut_off("a" + goal, goal), one_cut_off(goal + "b", goal),
+                       one_cut_off("a" + goal + "b", goal), one_cut_off("b" + goal, goal)],
+                      [True, True, True, False, False])
+        for goal in ("abcdefghabcd", "abcdefghabcde", "abcdefghabcdef", "abcdefgh" * 24):
+            self.same([one_cut_off("abcdefgh" + goal, goal), one_cut_off("a" + goal, goal),
+                       one_cut_off("a" + goal + goal[-1], goal), one_cut_off("b" + goal, goal)],
+                      [True, True, False, False])
 
 
 class Games(PlainCase):
@@ -275,12 +380,16 @@ class WrongValues(PlainCase):
             self.fails_for_no_film(BadFilm, call, behind=("a",))
             self.fails_for_no_film(BadFilm, call, ahead=("a",))
             self.fails_for_no_film(BadFilm, call, behind=("a" * 13,))
+            self.fails_for_no_film(BadFilm, call, ahead=("a" * 200,))
             self.fails(BadFilm, call, "abi", "xa", place=2)
+            self.fails(BadFilm, call, "a", "a" * 13 + "i", place=13)
         for more in (("a", "a"), ("xa", None), ("a", "a" * 13), (None, "a" * 13)):
             self.fails_for_no_film(BadFilm, is_between, behind=more)
         for last in ("a", "xa", "a" * 13):
             self.fails_for_no_film(BadFilm, is_between, ahead=("a",), behind=(last,))
         self.fails_for_no_film(BadFilm, is_between, ahead=("a", "b"))
+        self.fails_for_no_film(BadFilm, is_between, ahead=("a" * 200, "a" * 200))
+        self.fails(BadFilm, is_between, "a", "a", "a" * 13 + "i", place=13)
         for call in (turned_wins, first_missing):
             self.fails_for_no_film(BadFilm, call)
 
@@ -306,11 +415,9 @@ class WrongValues(PlainCase):
     def test_too_long_goals(self):
         for goal in ("a" * 13, "abcdefghabcde", "ab" * 100):
             for film in ("a", goal, "b" * 200):
-                for call in (count_between, between_lengths, one_cut_off):
+                for call in (count_between, between_lengths):
                     self.fails(TooLong, call, film, goal, most=12)
-                self.fails(TooLong, is_between, film, film, goal, most=12)
-        self.same([count_between("a" * 13, "a" * 12), one_cut_off("a" * 13, "a" * 12)], [2, True])
-        self.same(is_between("a" * 200, "a" * 13, "a" * 12), True)
+        self.same([count_between("a" * 13, "a" * 12), between_lengths("a" * 13, "a" * 12)], [2, ((12, 1), (13, 1))])
 
     def test_too_long_films(self):
         for film in ("a" * 15, "abcdefghabcdefg", "ab" * 100):
